@@ -1,0 +1,1 @@
+"""Nearpool: great numbers laid near their rows."""
