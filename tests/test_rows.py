@@ -7,26 +7,10 @@ import unittest
 
 from nearpool import rows as module
 from nearpool.rows import falls, greats_of, is_rows, joined, jumps_of
-
-TOP = 99999999
+from things import ODD_THINGS, TOP
 
 ONE_OF_EACH = [
     ("set", 0, 99), ("set", 4, 100), ("sum", 0, 4), ("less", 4, 0), ("tell", 2), ("go", 7), ("nil", 1, 0), ("stop",),
-]
-
-
-def nest(depth, make):
-    """Something so many deep, each level made of the one within."""
-    thing = make([])
-    for level in range(depth - 1):
-        thing = make([thing])
-    return thing
-
-
-ODD_THINGS = [
-    None, True, False, 0, 1, -1, 7, 10 ** 30, -10 ** 30, "", "set", "go", "stop", "nonsense", "\n", "\u00e9", "\ud800",
-    (), (None,), ("stop",), ("set", 0, 1), ("set",), ((),), ([],), (0, 0), [0], [None], [[]], [()], [""],
-    nest(10, list), nest(10, tuple), [("stop",), [("stop",)]],
 ]
 
 # Rows built by the words of [4], for a list of so many rows; what is_rows is held against.

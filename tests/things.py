@@ -1,0 +1,105 @@
+"""What several tests draw on: odd things, changed things, rows by chance, and a laying of rows cell by cell."""
+
+import random
+
+TOP = 99999999
+
+
+def nest(depth, make):
+    """Something so many deep, each level made of the one within."""
+    thing = make([])
+    for level in range(depth - 1):
+        thing = make([thing])
+    return thing
+
+
+ODD_THINGS = [
+    None, True, False, 0, 1, -1, 7, 10 ** 30, -10 ** 30, "", "set", "go", "stop", "nonsense", "\n", "\u00e9", "\ud800",
+    (), (None,), ("stop",), ("set", 0, 1), ("set",), ((),), ([],), (0, 0), [0], [None], [[]], [()], [""],
+    nest(10, list), nest(10, tuple), [("stop",), [("stop",)]],
+]
+
+FILLERS = [
+    None, True, False, 0, 1, -1, 100, 1000, TOP, TOP + 1, 10 ** 30, "", "1", (), [], (0,), [0], (0, (100,)), nest(6, list),
+]
+
+
+def changed(thing):
+    """Each thing that comes of changing one part of it, at whatever depth."""
+    if isinstance(thing, int) and not isinstance(thing, bool):
+        yield from (thing - 1, thing + 1, True, False, bool(thing), str(thing), (thing,), [thing])
+    if isinstance(thing, (list, tuple)):
+        kind = type(thing)
+        yield tuple(thing) if kind is list else list(thing)
+        for at, part in enumerate(thing):
+            ahead, behind = list(thing[:at]), list(thing[at + 1:])
+            yield kind(ahead + behind)
+            yield kind(ahead + [part, part] + behind)
+            for other in changed(part):
+                yield kind(ahead + [other] + behind)
+            for filler in FILLERS:
+                yield kind(ahead + [filler] + behind)
+        for at in range(len(thing) + 1):
+            for filler in FILLERS:
+                yield kind(list(thing[:at]) + [filler] + list(thing[at:]))
+        for at in range(len(thing) - 1):
+            yield kind(list(thing[:at]) + [thing[at + 1], thing[at]] + list(thing[at + 2:]))
+
+
+def lists_in(thing):
+    """Each list in an answer, at whatever depth."""
+    if isinstance(thing, list):
+        yield thing
+    if isinstance(thing, (list, tuple)):
+        for part in thing:
+            yield from lists_in(part)
+
+
+def row_by_chance(chance, many, numbers, share):
+    """A row, great with a chance of so much of ten."""
+    r, s, t = chance.randrange(5), chance.randrange(5), chance.randrange(many + 1)
+    if chance.randrange(10) < share:
+        return ("set", r, chance.choice(numbers))
+    return chance.choice([
+        ("set", r, s), ("set", r, 99), ("sum", r, s), ("less", r, s), ("tell", r), ("go", t), ("nil", r, t), ("stop",),
+    ])
+
+
+def rows_by_chance(seed, many, unlike, share):
+    """Rows and longs that are the same for the same seed."""
+    chance = random.Random(seed)
+    numbers = [100, TOP] + [chance.randrange(100, TOP + 1) for one in range(unlike)]
+    rows = [row_by_chance(chance, many, numbers[-unlike:] if unlike else [7], share) for one in range(many)]
+    longs = [at for at, row in enumerate(rows) if row[0] in ("go", "nil") and chance.randrange(3) == 0]
+    return rows, longs
+
+
+def is_great(row):
+    return row[0] == "set" and row[2] > 99
+
+
+def laid_in_words(rows, longs, pools):
+    """The cells of rows and pools as a list of what each cell is, by the words of [7]."""
+    cells = []
+    for gap in range(len(rows) + 1):
+        for number, (there, words) in enumerate(pools):
+            if there == gap:
+                if gap == 0 or rows[gap - 1][0] not in ("go", "stop"):
+                    cells += [("over", number), ("over behind", number)]
+                if len(cells) in range(0, 100000, 2):
+                    cells += [("pad", number)]
+                cells += [("head", number)]
+                for at, word in enumerate(words):
+                    cells += [("word", number, at), ("word behind", number, at)]
+        if gap < len(rows):
+            cells += [("row", gap)]
+            if is_great(rows[gap]) or gap in longs:
+                cells += [("row behind", gap)]
+    return cells
+
+
+def placed_in_words(rows, longs, pools):
+    """What placed is to tell, looked up in the list of cells."""
+    cells = laid_in_words(rows, longs, pools)
+    places = [cells.index(("row", at)) for at in range(len(rows))]
+    return (places, [cells.index(("word", number, 0)) for number in range(len(pools))], len(cells))
