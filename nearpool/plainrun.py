@@ -3,8 +3,8 @@
 from nearpool.rows import NUMBERS, REGISTERS
 
 
-def reckon(row, held):
-    """Gives a register what a set, a sum or a less asks for; other rows change none."""
+def carry_out(row, held, told):
+    """Does what a row asks of the registers and of what is told; where it goes is another matter."""
     word = row[0]
     if word == "set":
         held[row[1]] = row[2]
@@ -12,6 +12,8 @@ def reckon(row, held):
         held[row[1]] = (held[row[1]] + held[row[2]]) % NUMBERS
     elif word == "less":
         held[row[1]] = (held[row[1]] - held[row[2]]) % NUMBERS
+    elif word == "tell":
+        told.append(held[row[1]])
 
 
 def jumps_now(row, held):
@@ -30,9 +32,7 @@ def told_plainly(rows, most):
         went.append(at)
         if row[0] == "stop":
             return (told, "stopped", went)
-        if row[0] == "tell":
-            told.append(held[row[1]])
-        reckon(row, held)
+        carry_out(row, held, told)
         at = row[-1] if jumps_now(row, held) else at + 1
     # The end counts ahead of most: a run whose end is next isn't going, though so many rows are done.
     return (told, "ended" if at == len(rows) else "going", went)

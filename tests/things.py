@@ -103,3 +103,67 @@ def placed_in_words(rows, longs, pools):
     cells = laid_in_words(rows, longs, pools)
     places = [cells.index(("row", at)) for at in range(len(rows))]
     return (places, [cells.index(("word", number, 0)) for number in range(len(pools))], len(cells))
+
+
+def cell_in_words(rows, longs, plan, cells, place):
+    """The number of the cell at a place, by the words of [6], where cells are what laid_in_words tells."""
+    pools, uses = plan
+    kind, number, *rest = cells[place]
+    if kind in ("over", "pad"):
+        return {"over": 7001, "pad": 7002}[kind]
+    if kind == "over behind":
+        return cells.index(("word behind", number, len(pools[number][1]) - 1)) + 1
+    if kind == "head":
+        return 7100 + len(pools[number][1])
+    if kind in ("word", "word behind"):
+        return divmod(pools[number][1][rest[0]], 10000)[kind == "word behind"]
+    word, *parts = rows[number]
+    if is_great(rows[number]):
+        use = uses[[at for at, row in enumerate(rows) if is_great(row)].index(number)]
+        if kind == "row":
+            return 5000 + 100 * parts[0] + pools[use][1].index(parts[1])
+        return 5000 + cells.index(("word", use, 0)) - (place - 1)
+    if word in ("go", "nil"):
+        goal = cells.index(("row", parts[-1])) if parts[-1] < len(rows) else len(cells)
+        if kind == "row behind":
+            return goal
+        if number in longs:
+            return 7000 if word == "go" else 9000 + parts[0]
+        return (6500 if word == "go" else 8100 + 200 * parts[0]) + goal - place
+    heads = {"stop": (0,), "set": (1000, 100, 1), "sum": (2000, 10, 1), "less": (3000, 10, 1), "tell": (4000, 1)}[word]
+    return heads[0] + sum(times * part for times, part in zip(heads[1:], parts))
+
+
+def cells_in_words(rows, longs, plan):
+    """What laid_cells is to tell, each cell by itself."""
+    cells = laid_in_words(rows, longs, plan[0])
+    return [cell_in_words(rows, longs, plan, cells, place) for place in range(len(cells))]
+
+
+def too_short_in_words(rows, longs, pools, hop):
+    """What too_short is to tell, by places looked up in the list of cells."""
+    places, begins, end = placed_in_words(rows, longs, pools)
+    told = []
+    for at, row in enumerate(rows):
+        if row[0] in ("go", "nil") and at not in longs:
+            step = ([*places, end][row[-1]]) - places[at]
+            if step not in range(-hop, hop + 1) or (row[0] == "nil" and step not in range(-99, 100)):
+                told.append(at)
+    return told
+
+
+def laying_by_chance(seed, many, unlike, share):
+    """Rows, longs and a plan with pools at any gaps, some unread, some with words that none reads."""
+    rows, longs = rows_by_chance(seed, many, unlike, share)
+    chance = random.Random(seed)
+    greats = [row for row in rows if is_great(row)]
+    gaps = sorted(chance.sample(range(many + 1), chance.randrange(bool(greats), min(many + 1, 6) + 1)))
+    uses = [chance.randrange(len(gaps)) for row in greats]
+    pools = []
+    for number, gap in enumerate(gaps):
+        words = {row[2] for row, use in zip(greats, uses) if use == number}
+        words |= {chance.randrange(100, TOP + 1) for one in range(chance.randrange(3) or not words)}
+        pools.append((gap, tuple(chance.sample(sorted(words), len(words)))))
+    while too_short_in_words(rows, longs, pools, 499):
+        longs = sorted(longs + too_short_in_words(rows, longs, pools, 499))
+    return rows, longs, (pools, uses)
