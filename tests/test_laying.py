@@ -9,72 +9,12 @@ from nearpool.codes import seen_at
 from nearpool.growing import settled
 from nearpool.laying import laid_cells, made
 from nearpool.places import is_plan, placed
-from things import TOP, cells_in_words, laying_by_chance, rows_by_chance
-
-# Rows, longs, a plan, and the cells, worked out by hand from [6] and [7].
-BY_HAND = [
-    ([], [], ([], []), []),
-    # A pool and no row: over, pad, head, word; the over goes to the end.
-    ([], [], ([(0, (100,))], []), [7001, 6, 7002, 7101, 0, 100]),
-    ([], [], ([(0, (TOP, 123456))], []), [7001, 8, 7002, 7102, 9999, 9999, 12, 3456]),
-    ([("stop",)], [], ([], []), [0]),
-    (
-        [("set", 3, 99), ("sum", 1, 2), ("less", 4, 0), ("tell", 3), ("stop",)], [], ([], []),
-        [1399, 2012, 3040, 4003, 0],
-    ),
-    # Short jumps: back, ahead, to itself, to the end.
-    (
-        [("go", 2), ("nil", 1, 0), ("nil", 2, 2), ("go", 1), ("go", 5)], [], ([], []),
-        [6502, 8299, 8500, 6498, 6501],
-    ),
-    # The same, some of them long: places 0, 2, 3, 5, 6 and the end at 8.
-    (
-        [("go", 2), ("nil", 1, 0), ("nil", 2, 2), ("go", 1), ("go", 5)], [0, 2, 4], ([], []),
-        [7000, 3, 8298, 9002, 3, 6497, 7000, 8],
-    ),
-    # The pool behind its row: over 2 and 3, pad 4, head 5.
-    ([("set", 2, 1000)], [], ([(1, (1000,))], [0]), [5200, 5006, 7001, 8, 7002, 7101, 0, 1000]),
-    # The pool ahead of its row, at the first gap; the row reads its third word.
-    (
-        [("set", 2, 70000)], [], ([(0, (100, 200, 70000))], [0]),
-        [7001, 10, 7002, 7103, 0, 100, 0, 200, 7, 0, 5202, 4994],
-    ),
-    # At the first gap an over stands, whatever the last row is; row 0 is gone to behind the pool.
-    ([("go", 0)], [], ([(0, (100,))], []), [7001, 6, 7002, 7101, 0, 100, 6500]),
-    ([("go", 0)], [0], ([(0, (100,))], []), [7001, 6, 7002, 7101, 0, 100, 7000, 6]),
-    # Behind a go and behind a stop no over; with and without a pad.
-    ([("go", 1)], [], ([(1, (100,))], []), [6504, 7101, 0, 100]),
-    ([("go", 1)], [0], ([(1, (100,))], []), [7000, 6, 7002, 7101, 0, 100]),
-    ([("stop",), ("tell", 0)], [], ([(1, (100,))], []), [0, 7101, 0, 100, 4000]),
-    ([("tell", 0), ("stop",)], [], ([(2, (100,))], []), [4000, 0, 7002, 7101, 0, 100]),
-    # Behind a row that falls an over; without and with a pad.
-    ([("nil", 0, 1)], [], ([(1, (100,))], []), [8106, 7001, 6, 7101, 0, 100]),
-    ([("nil", 0, 1)], [0], ([(1, (100,))], []), [9000, 8, 7001, 8, 7002, 7101, 0, 100]),
-    # Two pools with like numbers, read from both sides: rows at 0, 8, 16 and 18.
-    (
-        [("set", 0, 1000), ("set", 1, 1000), ("set", 2, 1000), ("set", 3, 2000)], [],
-        ([(1, (1000,)), (2, (2000, 1000))], [0, 0, 1, 1]),
-        [
-            5000, 5006, 7001, 8, 7002, 7101, 0, 1000, 5100, 4998,
-            7001, 18, 7002, 7102, 0, 2000, 0, 1000, 5201, 4996, 5300, 4994,
-        ],
-    ),
-    # A row may read another pool than the nearest one.
-    (
-        [("set", 0, 1000), ("set", 1, 1000)], [], ([(1, (1000,)), (2, (500, 1000))], [1, 0]),
-        [5001, 5014, 7001, 8, 7002, 7101, 0, 1000, 5100, 4998, 7001, 18, 7002, 7102, 0, 500, 0, 1000],
-    ),
-    # A jump over a pool, and one back over it.
-    (
-        [("nil", 0, 2), ("go", 0), ("set", 0, 1000), ("go", 0)], [], ([(2, (1000,))], [0]),
-        [8106, 6499, 7002, 7101, 0, 1000, 5000, 4998, 6492],
-    ),
-]
+from things import LAYINGS, cells_in_words, laying_by_chance, rows_by_chance
 
 
 class LaidCellsTest(unittest.TestCase):
     def test_by_hand(self):
-        for rows, longs, plan, cells in BY_HAND:
+        for rows, longs, plan, cells in LAYINGS:
             with self.subTest(rows=rows, longs=longs, plan=plan):
                 self.assertIs(is_plan(rows, longs, (4999, 4999), plan), True)
                 self.assertEqual(repr(laid_cells(rows, longs, plan)), repr(cells))
@@ -167,7 +107,7 @@ class MadeTest(unittest.TestCase):
 
 class TheAskersOwnTest(unittest.TestCase):
     def test_nothing_is_changed_and_answers_are_the_askers_own(self):
-        for rows, longs, plan, cells in BY_HAND:
+        for rows, longs, plan, cells in LAYINGS:
             kept = copy.deepcopy((rows, longs, plan))
             told = laid_cells(rows, longs, plan)
             told.append(7)
